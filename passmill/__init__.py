@@ -1,0 +1,1 @@
+"""Passmill: small programs of blocks, made better pass by pass."""

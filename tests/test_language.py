@@ -1,0 +1,83 @@
+"""The rules of LANGUAGE.md that a look at the text, or at its tree, can tell."""
+
+import ast
+import pathlib
+import re
+import unittest
+
+PACKAGE = pathlib.Path(__file__).resolve().parent.parent / "passmill"
+BARRED_WORDS = (
+    "type", "typing", "typing_extensions", "enum", "Enum", "IntEnum", "StrEnum", "Flag", "IntFlag", "Generic",
+    "Protocol", "ABC", "ABCMeta", "namedtuple", "NamedTuple", "TypedDict", "TYPE_CHECKING", "abstractmethod",
+)
+BARRED_PARTS = ("dataclass", "overload", "contextmanager")
+BARRED_NAMES = (
+    "register", "mro", "elements", "open", "input", "version_info", "with_traceback", "add_note", "format",
+    "format_map", "chr", "eval", "exec", "getattr", "setattr", "hasattr", "globals", "locals", "vars", "print",
+)
+BARRED_NODES = (
+    ast.Global, ast.AsyncFunctionDef, ast.AsyncFor, ast.AsyncWith, ast.Await, ast.Import, ast.Div, ast.MatMult,
+)
+
+
+def names_in(node):
+    """Every name that a node of a tree binds or reads."""
+    fields = ("id", "attr", "name", "arg", "asname")
+    return [getattr(node, field) for field in fields if isinstance(getattr(node, field, None), str)]
+
+
+class LanguageTest(unittest.TestCase):
+    def setUp(self):
+        self.files = sorted(path for path in PACKAGE.iterdir() if path.name != "__pycache__")
+        self.texts = {path.name: path.read_text(encoding="utf-8") for path in self.files}
+        self.nodes = [(name, node) for name in self.texts for node in ast.walk(ast.parse(self.texts[name]))]
+
+    def test_files(self):
+        self.assertIn("__init__.py", self.texts)
+        for path in self.files:
+            self.assertTrue(path.is_file(), path)
+            self.assertRegex(path.name, r"^([a-z][a-z0-9_]*|__init__)\.py$")
+
+    def test_signs_and_sizes(self):
+        for name, text in self.texts.items():
+            self.assertIsNone(re.search(r"[^ -~\n]", text), name)
+            lines = text.split("\n")
+            self.assertLessEqual(len(lines), 400, name)
+            self.assertLessEqual(max(map(len, lines)), 120, name)
+
+    def test_functions_are_small(self):
+        for name, node in self.nodes:
+            if isinstance(node, ast.FunctionDef):
+                self.assertLessEqual(node.end_lineno - node.lineno + 1, 40, (name, node.name))
+
+    def test_barred_words(self):
+        for name, text in self.texts.items():
+            words = re.findall(r"[A-Za-z0-9_]+", text)
+            self.assertEqual([word for word in words if word in BARRED_WORDS], [], name)
+            self.assertEqual([part for part in BARRED_PARTS if part in text], [], name)
+
+    def test_names(self):
+        for name, node in self.nodes:
+            for told in names_in(node):
+                self.assertNotIn(told, BARRED_NAMES, name)
+                self.assertTrue(not told.startswith("_") or re.match(r"^__[a-z]+__$", told), (name, told))
+
+    def test_imports(self):
+        for name, node in self.nodes:
+            if isinstance(node, ast.ImportFrom):
+                self.assertEqual(node.level, 0, name)
+                self.assertRegex(node.module, r"^(passmill\.[a-z_]+|__future__)$", name)
+                self.assertNotIn("*", [alias.name for alias in node.names], name)
+
+    def test_statements(self):
+        for name, node in self.nodes:
+            self.assertNotIsInstance(node, BARRED_NODES, name)
+            if isinstance(node, ast.Constant):
+                self.assertNotIsInstance(node.value, (float, complex), name)
+                self.assertNotIn("%", str(node.value), name)
+            if isinstance(node, ast.Compare) and isinstance(node.ops[0], (ast.Is, ast.IsNot)):
+                self.assertIsInstance(node.comparators[0], ast.Constant, name)
+
+
+if __name__ == "__main__":
+    unittest.main()
