@@ -1,8 +1,9 @@
-"""What whole numbers, values and names are."""
+"""What whole numbers, values, names and names of passes are."""
 
 LETTERS = "abcdefghijklmnopqrstuvwxyz"
 MODULUS = 9973
 LONGEST_NAME = 3
+LONGEST_PASS_NAME = 6
 
 
 def is_whole(thing, low, high):
@@ -28,3 +29,8 @@ def is_word(thing, longest):
 def is_name(thing):
     """Whether a block or a place may be called by this thing."""
     return is_word(thing, LONGEST_NAME)
+
+
+def is_pass_name(thing):
+    """Whether a pass may be called by this thing."""
+    return is_word(thing, LONGEST_PASS_NAME)

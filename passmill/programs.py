@@ -9,19 +9,19 @@ MOST_STEPS = 16
 STEP_WORDS = ("set", "copy", "add", "sub", "mul", "less", "same", "get", "put")
 END_WORDS = ("go", "if", "stop")
 
-# What stands behind the word of each step and each end.
+# What stands behind the word of each step and each end: places are read or written.
 FORMS = {
-    "set": ("place", "value"),
-    "copy": ("place", "place"),
-    "add": ("place", "place", "place"),
-    "sub": ("place", "place", "place"),
-    "mul": ("place", "place", "place"),
-    "less": ("place", "place", "place"),
-    "same": ("place", "place", "place"),
-    "get": ("place",),
-    "put": ("place",),
+    "set": ("written", "value"),
+    "copy": ("written", "read"),
+    "add": ("written", "read", "read"),
+    "sub": ("written", "read", "read"),
+    "mul": ("written", "read", "read"),
+    "less": ("written", "read", "read"),
+    "same": ("written", "read", "read"),
+    "get": ("written",),
+    "put": ("read",),
     "go": ("block",),
-    "if": ("place", "block", "block"),
+    "if": ("read", "block", "block"),
     "stop": (),
 }
 
@@ -43,24 +43,24 @@ def is_block(thing):
     if not isinstance(thing, tuple) or len(thing) != 3:
         return False
     name, steps, end = thing
-    if not is_name(name) or not has_form(end, END_WORDS):
+    if not is_name(name) or not has_form(end, END_WORDS, is_part):
         return False
     if not isinstance(steps, tuple) or len(steps) > MOST_STEPS:
         return False
-    return all(has_form(step, STEP_WORDS) for step in steps)
+    return all(has_form(step, STEP_WORDS, is_part) for step in steps)
 
 
-def has_form(thing, words):
-    """Whether a thing begins with one of these words and goes on as the word asks."""
+def has_form(thing, words, fits):
+    """Whether a thing begins with one of these words, and its parts fit the kinds that the word asks for."""
     if not isinstance(thing, tuple) or not thing or thing[0] not in words:
         return False
     asked = FORMS[thing[0]]
     if len(thing) != 1 + len(asked):
         return False
-    return all(is_of_kind(part, kind) for part, kind in zip(thing[1:], asked))
+    return all(fits(part, kind) for part, kind in zip(thing[1:], asked))
 
 
-def is_of_kind(part, kind):
+def is_part(part, kind):
     """Whether a part of a step or an end may stand where this kind is asked for."""
     if kind == "value":
         return is_value(part)
@@ -70,6 +70,11 @@ def is_of_kind(part, kind):
 def parts_of(row, kind):
     """All parts of one kind that a step or an end has, in order."""
     return [part for part, known in zip(row[1:], FORMS[row[0]]) if known == kind]
+
+
+def places_in(row):
+    """All places that a step or an end writes or reads."""
+    return parts_of(row, "written") + parts_of(row, "read")
 
 
 def rows_of(block):
@@ -87,7 +92,7 @@ def check_program(thing):
 def places_of(program):
     """All places that a program names, rising."""
     check_program(program)
-    return sorted({place for block in program for row in rows_of(block) for place in parts_of(row, "place")})
+    return sorted({place for block in program for row in rows_of(block) for place in places_in(row)})
 
 
 def size_of(program):

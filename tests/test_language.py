@@ -1,6 +1,7 @@
 """The rules of LANGUAGE.md that a look at the text, or at its tree, can tell."""
 
 import ast
+import builtins
 import pathlib
 import re
 import unittest
@@ -14,6 +15,19 @@ BARRED_PARTS = ("dataclass", "overload", "contextmanager")
 BARRED_NAMES = (
     "register", "mro", "elements", "open", "input", "version_info", "with_traceback", "add_note", "format",
     "format_map", "chr", "eval", "exec", "getattr", "setattr", "hasattr", "globals", "locals", "vars", "print",
+)
+# L8, without those that stand in __main__.py alone, or that another rule bars.
+BUILTINS = (
+    "len", "range", "enumerate", "zip", "min", "max", "sum", "abs", "sorted", "reversed", "int", "str", "bool", "list",
+    "tuple", "dict", "set", "isinstance", "ord", "repr", "any", "all", "divmod", "iter", "next", "super",
+    "ValueError", "KeyError", "TypeError", "IndexError", "LookupError", "NotImplemented",
+)
+# L25, its first list.
+METHODS = (
+    "append", "clear", "copy", "count", "endswith", "extend", "find", "get", "index", "insert", "isalnum", "isalpha",
+    "isdigit", "islower", "isspace", "isupper", "items", "join", "keys", "ljust", "lower", "lstrip", "partition", "pop",
+    "remove", "replace", "reverse", "rfind", "rjust", "rpartition", "rsplit", "rstrip", "setdefault", "split",
+    "splitlines", "startswith", "strip", "update", "upper", "values", "zfill", "bit_length",
 )
 BARRED_NODES = (
     ast.Global, ast.AsyncFunctionDef, ast.AsyncFor, ast.AsyncWith, ast.Await, ast.Import, ast.Div, ast.MatMult,
@@ -61,6 +75,32 @@ class LanguageTest(unittest.TestCase):
             for told in names_in(node):
                 self.assertNotIn(told, BARRED_NAMES, name)
                 self.assertTrue(not told.startswith("_") or re.match(r"^__[a-z]+__$", told), (name, told))
+
+    def test_builtins(self):
+        for name, node in self.nodes:
+            if isinstance(node, ast.Name) and hasattr(builtins, node.id):
+                self.assertIn(node.id, BUILTINS, name)
+                self.assertIsInstance(node.ctx, ast.Load, (name, node.id))
+            if isinstance(node, ast.arg):
+                self.assertFalse(hasattr(builtins, node.arg), (name, node.arg))
+
+    def test_methods(self):
+        # Stored sets have two more (L24).
+        own = [node.name for name, node in self.nodes if isinstance(node, ast.FunctionDef)]
+        for name, node in self.nodes:
+            if isinstance(node, ast.Call) and isinstance(node.func, ast.Attribute):
+                self.assertIn(node.func.attr, (*METHODS, *own, "add", "discard"), name)
+
+    def test_no_two_files_import_from_each_other(self):
+        needs = {name[:-3]: set() for name in self.texts}
+        for name, node in self.nodes:
+            if isinstance(node, ast.ImportFrom) and node.module.startswith("passmill."):
+                needs[name[:-3]].add(node.module[len("passmill."):])
+        while needs:
+            free = [name for name in needs if not needs[name] & set(needs)]
+            self.assertTrue(free, needs)
+            for name in free:
+                del needs[name]
 
     def test_imports(self):
         for name, node in self.nodes:
