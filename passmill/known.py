@@ -31,6 +31,11 @@ def known_rows(program, edges, turn, meet):
     return tuple((name, tuple(sorted(starts[name].items()))) for name in sorted(starts))
 
 
+def known_by_name(told):
+    """For each name of a block of which such a fact tells what is known at its beginning."""
+    return {name: {key: worth for key, worth in rows} for name, rows in told}
+
+
 def known_starts(program, edges, turn, meet):
     """What is known at the beginning of each block that is reached."""
     steps_by_name = {name: steps for name, steps, end in program}

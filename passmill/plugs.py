@@ -1,5 +1,6 @@
 """Plugged passes: what is one."""
 
+from passmill.errors import NoPlug
 from passmill.facts import is_fact_name
 from passmill.kinds import is_pass_name, is_value
 from passmill.programs import STEP_WORDS, has_form
@@ -57,4 +58,15 @@ def is_form_part(part, kind):
 
 def signs_of(forms):
     """All signs in these forms, that of any value, too."""
-    return [part for form in forms for part in form[1:] if part in PLACE_SIGNS or part == VALUE_SIGN]
+    return [part for form in forms for part in form[1:] if is_sign(part)]
+
+
+def is_sign(part):
+    """Whether a part of a form stands for any place, or any value."""
+    return part in PLACE_SIGNS or part == VALUE_SIGN
+
+
+def check_plug(thing):
+    """Refuse what is no plugged pass."""
+    if not is_plug(thing):
+        raise NoPlug("this is no plugged pass")

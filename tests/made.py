@@ -1,4 +1,4 @@
-"""Programs made for the tests of facts: many shapes by hand, and many more by a counted source."""
+"""Programs and plugged passes made for the tests: many shapes by hand, and many more by a counted source."""
 
 import random
 
@@ -54,6 +54,17 @@ NAMESAKES = (
 SHAPES = (STOP, ROUND, ALL_WORDS, DIAMOND, RINGS, OWN, BOTH, UNREACHED, FALLING, NAMESAKES)
 
 
+def chain_program():
+    """A ring of blocks through which one place is copied to the next; dead leaves out one copy each time it goes."""
+    names = "abcdefghijkl"
+    places = [f"{first}{second}" for first in names for second in names]
+    links = [("copy", place, source) for source, place in zip(places, places[1:])]
+    return tuple((name, tuple(links[at::12]), ("go", names[(at + 1) % 12])) for at, name in enumerate(names))
+
+
+CHAIN = chain_program()
+
+
 def two_ways(ahead, left, right):
     """A program in which block d comes behind two ways, each with its own steps."""
     return (
@@ -107,3 +118,43 @@ def made_program(number):
 
 
 MADE = tuple(made_program(number) for number in range(400))
+
+
+def pooled_program(number):
+    """A program whose steps come from a few, so that the same sums and copies come again."""
+    source = random.Random(number)
+    places = "abcdef"[:source.randint(3, 5)]
+    names = source.sample(("m", "aa", "b", "z", "c"), source.randint(1, 5))
+    pool = [made_step(source, places) for _ in range(source.randint(2, 6))]
+    blocks = []
+    for name in names:
+        steps = tuple(source.choice(pool) for _ in range(source.randint(0, 7)))
+        blocks.append((name, steps, made_end(source, places, names)))
+    return tuple(blocks)
+
+
+POOLED = tuple(pooled_program(number) for number in range(250))
+
+
+def made_form(source, signs, values):
+    """A form with these signs for places, and these for values."""
+    step = made_step(source, signs)
+    return (*step[:2], source.choice(values)) if step[0] == "set" else step
+
+
+def made_plug(number):
+    """The plugged pass of this number; it says that it keeps what it may well break."""
+    source = random.Random(number)
+    rules = []
+    for _ in range(source.randint(1, 3)):
+        signs = "ABCD"[:source.randint(1, 4)]
+        old = tuple(made_form(source, signs, ("N", "N", 1, 0)) for _ in range(source.randint(1, 2)))
+        parts = [part for form in old for part in form[1:]]
+        signs = [sign for sign in "ABCD" if sign in parts]
+        values = ("N", 2) if "N" in parts else (0, 1, 2)
+        rules.append((old, tuple(made_form(source, signs, values) for _ in range(source.randint(0, len(old))))))
+    keeps = source.sample(FACT_NAMES, source.randint(0, 8))
+    return (f"plug{chr(97 + number // 26)}{chr(97 + number % 26)}", tuple(rules), tuple(keeps))
+
+
+PLUGS = tuple(made_plug(number) for number in range(60))
