@@ -2,8 +2,16 @@
 
 import unittest
 
+from made import FACT_NAMES
 from passmill.halves import after
+from passmill.mills import Mill
 from samples import one_block
+
+RULE = ((("put", "A"),), ())
+MUTE = ("mute", (RULE,), ())
+
+# Makes other values, and says that it keeps all.
+LIAR = ("liar", (((("set", "A", 1),), (("set", "A", 2),)),), FACT_NAMES)
 
 
 class PassTest(unittest.TestCase):
@@ -17,3 +25,18 @@ class PassTest(unittest.TestCase):
 
     def leaves(self, name, program):
         self.makes(name, program, program)
+
+
+def all_of(mill):
+    """All that a mill tells without being changed."""
+    return mill.program(), mill.facts(), mill.log(), mill.versions(), mill.lies(), len(mill), str(mill)
+
+
+def with_all_facts(program, *plugs, wary=False):
+    """A mill of which all facts are kept."""
+    mill = Mill(program, wary=wary)
+    for plug in plugs:
+        mill.plug(plug)
+    for name in FACT_NAMES:
+        mill.fact(name)
+    return mill

@@ -185,8 +185,8 @@ class JoinTest(PassTest):
     def test_the_order_and_place_of_the_blocks(self):
         self.makes(
             "join",
-            (("z", (), ("if", "x", "m", "y")), ("k", puts(1), ("stop",)), ("m", (), ("go", "k")), ("y", (), ("go", "w")),
-             ("w", puts(2), ("go", "z"))),
+            (("z", (), ("if", "x", "m", "y")), ("k", puts(1), ("stop",)), ("m", (), ("go", "k")),
+             ("y", (), ("go", "w")), ("w", puts(2), ("go", "z"))),
             (("z", (), ("if", "x", "m", "y")), ("m", puts(1), ("stop",)), ("y", puts(2), ("go", "z"))),
         )
 

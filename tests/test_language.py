@@ -102,6 +102,39 @@ class LanguageTest(unittest.TestCase):
             for name in free:
                 del needs[name]
 
+    def test_no_name_is_a_method_and_an_attribute(self):
+        methods, attributes = set(), set()
+        for name, node in self.nodes:
+            if isinstance(node, ast.ClassDef):
+                methods.update(part.name for part in node.body if isinstance(part, ast.FunctionDef))
+            if isinstance(node, ast.Attribute) and isinstance(node.ctx, ast.Store):
+                attributes.add(node.attr)
+        self.assertEqual(methods & attributes, set())
+        self.assertEqual((methods - {"__init__", "__len__", "__str__"}) & set(METHODS), set())
+
+    def test_no_local_name_is_that_of_an_import_or_class(self):
+        for name, text in self.texts.items():
+            tree = ast.parse(text)
+            barred = {alias.name for node in tree.body if isinstance(node, ast.ImportFrom) for alias in node.names}
+            barred |= {node.name for node in tree.body if isinstance(node, ast.ClassDef)}
+            for node in ast.walk(tree):
+                if isinstance(node, ast.arg):
+                    self.assertNotIn(node.arg, barred, name)
+                if isinstance(node, ast.Name) and isinstance(node.ctx, ast.Store):
+                    self.assertNotIn(node.id, barred, name)
+
+    def test_names_are_bound_once_in_each_file(self):
+        for name, text in self.texts.items():
+            bound = []
+            for node in ast.parse(text).body:
+                if isinstance(node, ast.ImportFrom):
+                    bound.extend(alias.asname or alias.name for alias in node.names)
+                elif isinstance(node, ast.Assign):
+                    bound.extend(target.id for target in node.targets)
+                elif isinstance(node, (ast.FunctionDef, ast.ClassDef)):
+                    bound.append(node.name)
+            self.assertEqual(len(bound), len(set(bound)), name)
+
     def test_imports(self):
         for name, node in self.nodes:
             if isinstance(node, ast.ImportFrom):
