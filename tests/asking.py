@@ -37,6 +37,7 @@ def with_all_facts(program, *plugs, wary=False):
     mill = Mill(program, wary=wary)
     for plug in plugs:
         mill.plug(plug)
-    for name in FACT_NAMES:
+    # Not rising, so that what is told rising is not so by this.
+    for name in FACT_NAMES[::-1]:
         mill.fact(name)
     return mill

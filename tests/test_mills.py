@@ -309,6 +309,13 @@ class LiesTest(unittest.TestCase):
         self.assertEqual(mill.fact("consts"), fact(self.PROGRAM, "consts"))
         self.assertNotEqual(mill.fact("consts"), fact(mill.program(), "consts"))
 
+    def test_a_mill_is_not_wary_by_itself(self):
+        mill = Mill(self.PROGRAM)
+        mill.plug(LIAR)
+        mill.fact("consts")
+        mill.do_pass("liar")
+        self.assertEqual((mill.facts(), mill.lies()), (["consts", "edges"], []))
+
     def test_no_pass_builds_on_what_is_false(self):
         # [0.2] (a), (c): what passes make does not hang on what was kept, and does as well.
         mill = with_all_facts(self.PROGRAM, LIAR)
